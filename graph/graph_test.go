@@ -9,6 +9,7 @@ import (
 	"testing"
 
 	"milepost/api"
+	"milepost/sample"
 )
 
 // wrongNumbers are no places of three things.
@@ -41,18 +42,6 @@ func wantRefused(t *testing.T, what string, g api.Graph) {
 	}
 }
 
-// sized is a graph of so many nodes and edges, and bans of turns in one node.
-func sized(nodes, edges, bans int) api.Graph {
-	g := api.Graph{Nodes: make([]api.Node, nodes)}
-	for range edges {
-		g.Edges = append(g.Edges, api.Edge{W: 1})
-	}
-	for i := range bans {
-		g.Bans = append(g.Bans, api.Ban{A: i / edges, B: i % edges})
-	}
-	return g
-}
-
 func ExampleNew() {
 	g, e := New(api.Graph{Nodes: []api.Node{{X: 3, Y: 4}}})
 	fmt.Println(g.Nodes(), g.Edges(), e)
@@ -63,18 +52,18 @@ func ExampleNew() {
 
 func TestNewTakesWhatMayBe(t *testing.T) {
 	mustNew(t, three())
-	mustNew(t, sized(1, 0, 0))
-	mustNew(t, sized(1, 1, 1))
-	mustNew(t, sized(256, 512, 1024))
+	mustNew(t, sample.Loops(1, 0, 0))
+	mustNew(t, sample.Loops(1, 1, 1))
+	mustNew(t, sample.Loops(256, 512, 1024))
 }
 
 func TestNewRefusesTooFewOrTooMany(t *testing.T) {
 	wantRefused(t, "nothing", api.Graph{})
 	wantRefused(t, "no nodes", api.Graph{Nodes: []api.Node{}})
-	wantRefused(t, "edges without nodes", sized(0, 1, 0))
-	wantRefused(t, "257 nodes", sized(257, 1, 0))
-	wantRefused(t, "513 edges", sized(1, 513, 0))
-	wantRefused(t, "1025 bans", sized(1, 512, 1025))
+	wantRefused(t, "edges without nodes", sample.Loops(0, 1, 0))
+	wantRefused(t, "257 nodes", sample.Loops(257, 1, 0))
+	wantRefused(t, "513 edges", sample.Loops(1, 513, 0))
+	wantRefused(t, "1025 bans", sample.Loops(1, 512, 1025))
 }
 
 func TestNewRefusesWrongNodes(t *testing.T) {
@@ -210,12 +199,12 @@ func TestBanned(t *testing.T) {
 }
 
 func TestPlain(t *testing.T) {
-	for _, p := range []api.Graph{three(), sized(256, 512, 1024)} {
+	for _, p := range []api.Graph{three(), sample.Loops(256, 512, 1024)} {
 		if got := mustNew(t, p).Plain(); !reflect.DeepEqual(got, p) {
 			t.Errorf("Plain() = %v, want %v", got, p)
 		}
 	}
-	p := mustNew(t, sized(1, 0, 0)).Plain()
+	p := mustNew(t, sample.Loops(1, 0, 0)).Plain()
 	if len(p.Nodes) != 1 || len(p.Edges) != 0 || len(p.Bans) != 0 {
 		t.Errorf("Plain() = %v", p)
 	}
@@ -244,29 +233,10 @@ func TestNilAndZeroGraph(t *testing.T) {
 
 // P5.3
 
-// random is a graph that may be.
-func random(r *rand.Rand) api.Graph {
-	g := api.Graph{}
-	for range 1 + r.Intn(9) {
-		g.Nodes = append(g.Nodes, api.Node{X: r.Intn(4096), Y: r.Intn(4096)})
-	}
-	for range r.Intn(30) {
-		g.Edges = append(g.Edges, api.Edge{From: r.Intn(len(g.Nodes)), To: r.Intn(len(g.Nodes)), W: 1 + r.Intn(65535)})
-	}
-	for a := range g.Edges {
-		for b := range g.Edges {
-			if g.Edges[a].To == g.Edges[b].From && r.Intn(4) == 0 {
-				g.Bans = append(g.Bans, api.Ban{A: a, B: b})
-			}
-		}
-	}
-	return g
-}
-
 func TestEachEdgeIsInOneOutAndInOneIn(t *testing.T) {
 	r := rand.New(rand.NewSource(1))
 	for range 300 {
-		p := random(r)
+		p := sample.Graph(r.Intn, 1+r.Intn(9), r.Intn(30))
 		g := mustNew(t, p)
 		out, in := make([]int, len(p.Edges)), make([]int, len(p.Edges))
 		for n := range p.Nodes {
@@ -302,21 +272,6 @@ func TestEachEdgeIsInOneOutAndInOneIn(t *testing.T) {
 	}
 }
 
-// overwrite changes all of a list, its spare room too.
-func overwrite[T any](list []T, by T) {
-	list = list[:cap(list)]
-	for i := range list {
-		list[i] = by
-	}
-}
-
-// overwriteAll changes all of a graph's lists, their spare room too.
-func overwriteAll(g api.Graph) {
-	overwrite(g.Nodes, api.Node{X: 99, Y: 99})
-	overwrite(g.Edges, api.Edge{From: 99, To: 99, W: 99})
-	overwrite(g.Bans, api.Ban{A: 99, B: 99})
-}
-
 // wantThree asks that a graph tells what three is, by all its calls.
 func wantThree(t *testing.T, g *Graph) {
 	t.Helper()
@@ -343,7 +298,7 @@ func TestArgumentIsNeitherChangedNorKept(t *testing.T) {
 	if !reflect.DeepEqual(spare, three()) {
 		t.Errorf("the argument was changed: %v", spare)
 	}
-	overwriteAll(spare)
+	sample.OverwriteGraph(spare)
 	wantThree(t, g)
 }
 
@@ -352,10 +307,10 @@ func TestAnswersAreNewMemory(t *testing.T) {
 	plain, other := g.Plain(), g.Plain()
 	out, in := g.Out(1), g.In(1)
 	for n := range 3 {
-		overwrite(g.Out(n), 99)
-		overwrite(g.In(n), 99)
+		sample.Overwrite(g.Out(n), 99)
+		sample.Overwrite(g.In(n), 99)
 	}
-	overwriteAll(plain)
+	sample.OverwriteGraph(plain)
 	if !reflect.DeepEqual(other, three()) || !slices.Equal(out, []int{1, 3}) || !slices.Equal(in, []int{0, 3}) {
 		t.Errorf("an answer was changed: %v, %v, %v", other, out, in)
 	}
@@ -365,8 +320,8 @@ func TestAnswersAreNewMemory(t *testing.T) {
 func TestGraphsHaveNothingInCommon(t *testing.T) {
 	p := three()
 	g := mustNew(t, p)
-	h := mustNew(t, sized(1, 1, 1))
-	overwriteAll(h.Plain())
+	h := mustNew(t, sample.Loops(1, 1, 1))
+	sample.OverwriteGraph(h.Plain())
 	wantRefused(t, "a wrong one", api.Graph{})
 	wantThree(t, g)
 	if h.Edges() != 1 || !h.Banned(0, 0) || h.Banned(0, 1) {

@@ -1,0 +1,61 @@
+// Package sample is graphs, bytes and lists for the tests of the other packages: only tests call it.
+package sample
+
+import (
+	"bytes"
+
+	"milepost/api"
+	"milepost/check"
+)
+
+// Loops is a graph of so many nodes, of edges from the first one to itself, and of bans among these.
+func Loops(nodes, edges, bans int) api.Graph {
+	g := api.Graph{Nodes: make([]api.Node, nodes)}
+	for range edges {
+		g.Edges = append(g.Edges, api.Edge{W: 1})
+	}
+	for i := range bans {
+		g.Bans = append(g.Bans, api.Ban{A: i / edges, B: i % edges})
+	}
+	return g
+}
+
+// Graph is a graph of so many nodes and edges, with a fourth of all turns banned: pick(n) tells a number from 0 to n - 1, so that the same one makes the same graph.
+func Graph(pick func(n int) int, nodes, edges int) api.Graph {
+	g := api.Graph{}
+	for range nodes {
+		g.Nodes = append(g.Nodes, api.Node{X: pick(api.MaxPlace + 1), Y: pick(api.MaxPlace + 1)})
+	}
+	for range edges {
+		g.Edges = append(g.Edges, api.Edge{From: pick(nodes), To: pick(nodes), W: 1 + pick(api.MaxWeight)})
+	}
+	for a, from := range g.Edges {
+		for b, to := range g.Edges {
+			if from.To == to.From && pick(4) == 0 && len(g.Bans) < api.MaxBans {
+				g.Bans = append(g.Bans, api.Ban{A: a, B: b})
+			}
+		}
+	}
+	return g
+}
+
+// Summed is bytes with the sum of them behind them.
+func Summed(b ...byte) []byte {
+	sum := check.Sum(b)
+	return append(bytes.Clone(b), byte(sum>>24), byte(sum>>16), byte(sum>>8), byte(sum))
+}
+
+// Overwrite changes all of a list, its spare room too.
+func Overwrite[T any](list []T, by T) {
+	list = list[:cap(list)]
+	for i := range list {
+		list[i] = by
+	}
+}
+
+// OverwriteGraph changes all of a graph's lists, their spare room too.
+func OverwriteGraph(g api.Graph) {
+	Overwrite(g.Nodes, api.Node{X: 99, Y: 99})
+	Overwrite(g.Edges, api.Edge{From: 99, To: 99, W: 99})
+	Overwrite(g.Bans, api.Ban{A: 99, B: 99})
+}
