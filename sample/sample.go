@@ -1,4 +1,4 @@
-// Package sample is graphs, bytes and lists for the tests of the other packages: only tests call it.
+// Package sample is graphs, arcs, bytes and lists for the tests of the other packages: only tests call it.
 package sample
 
 import (
@@ -37,6 +37,35 @@ func Graph(pick func(n int) int, nodes, edges int) api.Graph {
 		}
 	}
 	return g
+}
+
+// Ties is a graph as Graph's, but of weights from 1 to 3, so that many walks weigh the same.
+func Ties(pick func(n int) int, nodes, edges int) api.Graph {
+	g := Graph(pick, nodes, edges)
+	for i := range g.Edges {
+		g.Edges[i].W = 1 + pick(3)
+	}
+	return g
+}
+
+// Mask is of so many edges whether each is closed: one in every of them, about.
+func Mask(pick func(n int) int, edges, every int) []bool {
+	mask := make([]bool, edges)
+	for e := range mask {
+		mask[e] = pick(every) == 0
+	}
+	return mask
+}
+
+// Arcs is so many arcs, without a Mid, between unlike ones of n numbers, of weights from 1 to most: there may be some from one number to the same other one.
+func Arcs(pick func(n int) int, n, arcs, most int) []api.Arc {
+	var all []api.Arc
+	for range arcs {
+		from := pick(n)
+		to := (from + 1 + pick(n-1)) % n
+		all = append(all, api.Arc{From: from, To: to, W: 1 + pick(most), Mid: -1})
+	}
+	return all
 }
 
 // Summed is bytes with the sum of them behind them.

@@ -7,14 +7,25 @@ import (
 
 	"milepost/api"
 	"milepost/graph"
+	"milepost/net"
 	"milepost/sample"
 )
 
 func TestGraphsMayBe(t *testing.T) {
 	r := rand.New(rand.NewSource(1))
-	for _, p := range []api.Graph{sample.Loops(1, 0, 0), sample.Loops(256, 512, 1024), sample.Graph(r.Intn, 1, 0), sample.Graph(r.Intn, 5, 20), sample.Graph(r.Intn, 1, 512)} {
+	for _, p := range []api.Graph{sample.Loops(1, 0, 0), sample.Loops(256, 512, 1024), sample.Graph(r.Intn, 1, 0), sample.Graph(r.Intn, 5, 20), sample.Graph(r.Intn, 1, 512), sample.Ties(r.Intn, 5, 20)} {
 		if _, e := graph.New(p); e != api.OK {
 			t.Errorf("no graph of %d nodes, %d edges, %d bans", len(p.Nodes), len(p.Edges), len(p.Bans))
+		}
+	}
+}
+
+func TestArcsMayBe(t *testing.T) {
+	r := rand.New(rand.NewSource(2))
+	for n := 2; n < 9; n++ {
+		arcs := sample.Arcs(r.Intn, n, 100, 3)
+		if _, e := net.New(n, arcs...); e != api.OK || len(arcs) != 100 {
+			t.Errorf("no net of %d: %v", n, arcs)
 		}
 	}
 }
