@@ -74,6 +74,9 @@ func wantNet(t *testing.T, what string, x *Net, n int, arcs ...api.Arc) {
 		if !slices.Equal(x.Out(v), out) || !slices.Equal(x.In(v), in) {
 			t.Errorf("%s: Out(%d) %v, In %v; want %v, %v", what, v, x.Out(v), x.In(v), out, in)
 		}
+		if each := slices.Collect(x.Each(v)); !slices.Equal(each, out) {
+			t.Errorf("%s: Each(%d) %v, want %v", what, v, each, out)
+		}
 		for to := -2; to < n+2; to++ {
 			wantArc(t, what, x, v, to, arcs)
 		}
@@ -290,6 +293,17 @@ func TestAsAModel(t *testing.T) {
 		if t.Failed() {
 			return
 		}
+	}
+}
+
+func TestEachEndsEarly(t *testing.T) {
+	told := 0
+	for range mustNew(t, 3, arc(0, 1, 1), arc(0, 2, 1)).Each(0) {
+		told++
+		break
+	}
+	if told != 1 {
+		t.Errorf("%d were told", told)
 	}
 }
 

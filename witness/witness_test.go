@@ -4,6 +4,7 @@ import (
 	"fmt"
 	"math"
 	"math/rand"
+	"slices"
 	"testing"
 
 	"milepost/api"
@@ -263,11 +264,60 @@ func TestWhatIsFoundIsThere(t *testing.T) {
 	}
 }
 
+// Around tells what Find's search settles.
+
+func TestAround(t *testing.T) {
+	x := six()
+	all := []Stop{{At: 0, Sum: 0, Via: Nobody}, {At: 1, Sum: 1, Via: 0}, {At: 2, Sum: 2, Via: 1}, {At: 4, Sum: 2, Via: 0}, {At: 3, Sum: 3, Via: 2}}
+	for settle := range 8 {
+		if got, want := Around(x, 0, Nobody, settle), all[:min(settle, 5)]; !slices.Equal(got, want) {
+			t.Errorf("Around of %d: %v, want %v", settle, got, want)
+		}
+	}
+	if got := Around(x, 0, 2, 9); fmt.Sprint(got) != "[{0 0 -1} {1 1 0} {4 2 0} {3 4 0}]" {
+		t.Errorf("Around without 2: %v", got)
+	}
+	for _, v := range wrong {
+		if got := Around(x, v, Nobody, 9); len(got) != 0 {
+			t.Errorf("Around of %d: %v", v, got)
+		}
+	}
+	if got := slices.Concat(Around(x, 0, 0, 9), Around(x, 0, Nobody, -1), Around(nil, 0, Nobody, 9)); len(got) != 0 {
+		t.Errorf("Around of nothing: %v", got)
+	}
+}
+
+func TestAroundAsTheChapterSays(t *testing.T) {
+	r := rand.New(rand.NewSource(143))
+	for range 500 {
+		x := anyNet(r)
+		n := x.Len()
+		from, without, settle := r.Intn(n), r.Intn(n+1)-1, r.Intn(n+3)
+		want := searched(x, from, without, settle)
+		got := Around(x, from, without, settle)
+		for i, s := range got {
+			if want[s.At] != s.Sum || i > 0 && (s.Sum < got[i-1].Sum || s.Sum == got[i-1].Sum && s.At < got[i-1].At) {
+				t.Fatalf("Around(%d, %d, %d) = %v, want %v", from, without, settle, got, want)
+			}
+			want[s.At] = -1
+			a, is := x.Arc(s.Via, s.At)
+			via := slices.IndexFunc(got[:i], func(p Stop) bool { return p.At == s.Via })
+			if i > 0 && (!is || via < 0 || got[via].Sum+a.W != s.Sum) || i == 0 && s.Via != Nobody {
+				t.Fatalf("Around(%d, %d, %d) = %v: from whom is %v", from, without, settle, got, s)
+			}
+		}
+		if slices.Max(want) != -1 {
+			t.Fatalf("Around(%d, %d, %d) = %v, but for %v", from, without, settle, got, want)
+		}
+	}
+}
+
 func TestNetIsNotChanged(t *testing.T) {
 	x := six()
 	all := fmt.Sprint(x.Len(), x.All())
 	Find(x, 0, 3, 1, 99, 9)
 	Far(x, 0, 3)
+	Around(x, 0, 1, 9)
 	if got := fmt.Sprint(x.Len(), x.All()); got != all {
 		t.Errorf("the net was changed: %s", got)
 	}
