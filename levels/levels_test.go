@@ -205,6 +205,47 @@ func TestCuts(t *testing.T) {
 	}
 }
 
+func TestGiven(t *testing.T) {
+	// A shortcut in the place of a heavier arc with a Mid of its own; one that is as light stays.
+	for _, c := range []struct {
+		own  api.Arc
+		cuts []api.Arc
+	}{
+		{by(3, 1, 9, 2), []api.Arc{by(3, 1, 2, 0), by(3, 2, 3, 1)}},
+		{by(3, 1, 2, 2), []api.Arc{by(3, 2, 3, 1)}},
+	} {
+		l := Build(ring(c.own))
+		for _, a := range l.All() {
+			if got := l.Given(a); got == slices.Contains(c.cuts, a) {
+				t.Errorf("with %v: Given(%v) = %t", c.own, a, got)
+			}
+		}
+		if l.Cuts() != 2 {
+			t.Errorf("with %v: %v", c.own, l.All())
+		}
+	}
+	for _, none := range []*Levels{nil, {}, {Net: row()}} {
+		if none.Given(by(3, 1, 9, 2)) {
+			t.Errorf("%v has it", none)
+		}
+	}
+}
+
+func TestGivenAreThoseOfTheNet(t *testing.T) {
+	r := rand.New(rand.NewSource(164))
+	for range 100 {
+		n := 2 + r.Intn(20)
+		x := netOf(n, sample.Mids(r.Intn, n, sample.Arcs(r.Intn, n, r.Intn(5*n), 1+r.Intn(20)))...)
+		l := Build(x)
+		for _, a := range l.All() {
+			own, is := x.Arc(a.From, a.To)
+			if got := l.Given(a); got != (is && own == a) {
+				t.Fatalf("Given(%v) = %t, of %v", a, got, x.All())
+			}
+		}
+	}
+}
+
 func TestNetsOwnCalls(t *testing.T) {
 	l := Build(row())
 	a, is := l.Arc(1, 2)

@@ -68,6 +68,18 @@ func Arcs(pick func(n int) int, n, arcs, most int) []api.Arc {
 	return all
 }
 
+// Mids is the same arcs between n numbers, of which every other one, about, has a Mid of its own; all have none, if there is no third number.
+func Mids(pick func(n int) int, n int, arcs []api.Arc) []api.Arc {
+	var all []api.Arc
+	for _, a := range arcs {
+		if mid := pick(n); pick(2) == 0 && mid != a.From && mid != a.To {
+			a.Mid = mid
+		}
+		all = append(all, a)
+	}
+	return all
+}
+
 // Summed is bytes with the sum of them behind them.
 func Summed(b ...byte) []byte {
 	sum := check.Sum(b)

@@ -30,6 +30,22 @@ func TestArcsMayBe(t *testing.T) {
 	}
 }
 
+func TestMidsMayBe(t *testing.T) {
+	r := rand.New(rand.NewSource(3))
+	for n := 2; n < 9; n++ {
+		arcs := sample.Mids(r.Intn, n, sample.Arcs(r.Intn, n, 100, 3))
+		mids := 0
+		for _, a := range arcs {
+			if a.Mid >= 0 {
+				mids++
+			}
+		}
+		if _, e := net.New(n, arcs...); e != api.OK || len(arcs) != 100 || (mids > 9) != (n > 2) {
+			t.Errorf("no net of %d, with %d Mids: %v", n, mids, arcs)
+		}
+	}
+}
+
 func TestSummed(t *testing.T) {
 	b := []byte("123456789")
 	if got := sample.Summed(b...); !bytes.Equal(got, append(b, 0xE3, 0x06, 0x92, 0x83)) {

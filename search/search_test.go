@@ -257,21 +257,66 @@ func TestAsFarAsInTheNet(t *testing.T) {
 				continue
 			}
 			far, ok := Dist(l, from, to...)
-			way, is := Path(l, from, to...)
-			if !ok || !is || far != want || way[0] != from || !slices.Contains(to, way[len(way)-1]) {
-				t.Fatalf("from %d to %v: %d, %t, %v, %t; want %d; of %v", from, to, far, ok, way, is, want, x.All())
+			if !ok || far != want {
+				t.Fatalf("Dist(%d, %v) = %d, %t; want %d; of %v", from, to, far, ok, want, x.All())
 			}
-			sum := 0
-			for i, v := range way[1:] {
-				a, isArc := x.Arc(way[i], v)
-				if !isArc {
-					t.Fatalf("Path(%d, %v) = %v, of %v", from, to, way, x.All())
-				}
-				sum += a.W
+			wantPathOfTheNet(t, x, l, want, from, to...)
+		}
+	}
+}
+
+// wantPathOfTheNet asks for a way by arcs of the net itself, of a weight.
+func wantPathOfTheNet(t *testing.T, x *net.Net, l *levels.Levels, want, from int, to ...int) {
+	t.Helper()
+	way, is := Path(l, from, to...)
+	if !is || way[0] != from || !slices.Contains(to, way[len(way)-1]) {
+		t.Fatalf("Path(%d, %v) = %v, %t, of %v", from, to, way, is, x.All())
+	}
+	sum := 0
+	for i, v := range way[1:] {
+		a, isArc := x.Arc(way[i], v)
+		if !isArc {
+			t.Fatalf("Path(%d, %v) = %v, of %v", from, to, way, x.All())
+		}
+		sum += a.W
+	}
+	if sum != want {
+		t.Fatalf("Path(%d, %v) = %v is %d, want %d; of %v", from, to, way, sum, want, x.All())
+	}
+}
+
+// P18.2, of arcs that have a Mid of their own
+
+// by is one that has a Mid of its own.
+func by(from, to, w, mid int) api.Arc { return api.Arc{From: from, To: to, W: w, Mid: mid} }
+
+func TestPathByArcsWithAMid(t *testing.T) {
+	// Nothing lies over the Mid; what lies there is heavier; as light; lighter; a shortcut goes over such arcs, or takes the place of one.
+	wantWay(t, levelsOf(3, by(0, 1, 5, 2)), 5, []int{0, 1}, 0, 1)
+	wantWay(t, levelsOf(3, by(0, 1, 1, 2), arc(0, 2, 9), arc(2, 1, 9)), 1, []int{0, 1}, 0, 1)
+	wantWay(t, levelsOf(3, by(0, 1, 18, 2), arc(0, 2, 9), arc(2, 1, 9)), 18, []int{0, 1}, 0, 1)
+	wantWay(t, levelsOf(3, by(0, 1, 19, 2), arc(0, 2, 9), arc(2, 1, 9)), 18, []int{0, 2, 1}, 0, 1)
+	wantWay(t, levelsOf(4, by(1, 0, 1, 3), by(0, 2, 2, 1)), 3, []int{1, 0, 2}, 1, 2)
+	wantWay(t, levelsOf(4, arc(1, 0, 1), arc(0, 2, 2), by(1, 2, 9, 3)), 3, []int{1, 0, 2}, 1, 2)
+	// Each of two is said to be over the other one's end.
+	wantWay(t, levelsOf(3, by(0, 1, 4, 2), by(0, 2, 5, 1)), 4, []int{0, 1}, 0, 1)
+	wantNoWay(t, levelsOf(3, by(0, 1, 5, 2)), 0, 2)
+}
+
+func TestAnyPathByArcsWithAMid(t *testing.T) {
+	r := rand.New(rand.NewSource(182))
+	for k := range 100 {
+		n := 3 + r.Intn(10+k/2)
+		x, _ := net.New(n, sample.Mids(r.Intn, n, sample.Arcs(r.Intn, n, r.Intn(5*n), 1+r.Intn(20)))...)
+		l := levels.Build(x)
+		to := anyNumbers(r, n, 4)
+		for from := range n {
+			want := nearest(x, from, to)
+			if want < 0 {
+				wantNoWay(t, l, from, to...)
+				continue
 			}
-			if sum != want {
-				t.Fatalf("Path(%d, %v) = %v is %d, want %d", from, to, way, sum, want)
-			}
+			wantPathOfTheNet(t, x, l, want, from, to...)
 		}
 	}
 }

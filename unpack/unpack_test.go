@@ -174,6 +174,31 @@ func TestNoRow(t *testing.T) {
 	wantNoRow(t, &levels.Levels{}, 0, 1)
 }
 
+func TestWay(t *testing.T) {
+	way := func(l *levels.Levels, stops ...int) string { return fmt.Sprint(Way(l, stops...)) }
+	row := func(l *levels.Levels, stops ...int) string { return fmt.Sprint(Row(l, stops...)) }
+	// An arc with a Mid of its own is gone as it is, and so it is as a part of a shortcut.
+	l := levelsOf(4, api.Arc{From: 1, To: 0, W: 1, Mid: 3}, by(0, 2, 3))
+	for what, got := range map[string][2]string{
+		"its own":       {way(l, 1, 0), "[1 0] 0"},
+		"a part":        {way(l, 1, 2), "[1 0 2] 0"},
+		"both":          {way(l, 1, 0, 2), "[1 0 2] 0"},
+		"one":           {way(l, 3), "[3] 0"},
+		"none":          {way(l), "[] 0"},
+		"no arc":        {way(l, 1, 0, 3), "[] 4"},
+		"no number":     {way(l, 0, -1), "[] 4"},
+		"of nil":        {way(nil, 0, 1), "[] 4"},
+		"one of nil":    {way(nil, 7), "[7] 0"},
+		"of the zero":   {way(&levels.Levels{}, 0, 1), "[] 4"},
+		"without Mids":  {way(ring(), 4, 3), "[4 0 1 2 3] 0"},
+		"Row goes over": {row(l, 1, 0), "[] 4"},
+	} {
+		if got[0] != got[1] {
+			t.Errorf("%s: %s, want %s", what, got[0], got[1])
+		}
+	}
+}
+
 // P17.2
 
 func TestArcsOfTheNetAndAsHeavy(t *testing.T) {
@@ -197,6 +222,32 @@ func TestArcsOfTheNetAndAsHeavy(t *testing.T) {
 			}
 			if sum != a.W {
 				t.Fatalf("Arc of %v: %v, of %d", a, way, sum)
+			}
+		}
+	}
+}
+
+func TestWayIsOfTheNetAndAsHeavy(t *testing.T) {
+	r := rand.New(rand.NewSource(170))
+	for k := range 60 {
+		n := 3 + r.Intn(10+k)
+		x, _ := net.New(n, sample.Mids(r.Intn, n, sample.Arcs(r.Intn, n, r.Intn(5*n), 1+r.Intn(20)))...)
+		l := levels.Build(x)
+		for _, a := range l.All() {
+			way, e := Way(l, a.From, a.To)
+			if e != api.OK || way[0] != a.From || way[len(way)-1] != a.To {
+				t.Fatalf("Way of %v: %v, %d, of %v", a, way, e, x.All())
+			}
+			sum := 0
+			for i, to := range way[1:] {
+				b, is := x.Arc(way[i], to)
+				if !is {
+					t.Fatalf("Way of %v: %v, of %v", a, way, x.All())
+				}
+				sum += b.W
+			}
+			if sum != a.W {
+				t.Fatalf("Way of %v: %v, of %d; of %v", a, way, sum, x.All())
 			}
 		}
 	}
