@@ -201,6 +201,25 @@ func TestWay(t *testing.T) {
 
 // P17.2
 
+// wantRowOfTheNet asks whether a row stands for an arc: by arcs of the net, and as heavy.
+func wantRowOfTheNet(t *testing.T, x *net.Net, a api.Arc, row []int, e api.Errno) {
+	t.Helper()
+	if e != api.OK || row[0] != a.From || row[len(row)-1] != a.To {
+		t.Fatalf("for %v: %v, %d; of %v", a, row, e, x.All())
+	}
+	sum := 0
+	for i, to := range row[1:] {
+		b, is := x.Arc(row[i], to)
+		if !is {
+			t.Fatalf("for %v: %v; of %v", a, row, x.All())
+		}
+		sum += b.W
+	}
+	if sum != a.W {
+		t.Fatalf("for %v: %v, of %d; of %v", a, row, sum, x.All())
+	}
+}
+
 func TestArcsOfTheNetAndAsHeavy(t *testing.T) {
 	r := rand.New(rand.NewSource(17))
 	for k := range 60 {
@@ -208,21 +227,8 @@ func TestArcsOfTheNetAndAsHeavy(t *testing.T) {
 		x, _ := net.New(n, sample.Arcs(r.Intn, n, r.Intn(5*n), 1+r.Intn(20))...)
 		l := levels.Build(x)
 		for _, a := range l.All() {
-			way, e := Arc(l, a.From, a.To)
-			if e != api.OK || way[0] != a.From || way[len(way)-1] != a.To {
-				t.Fatalf("Arc of %v: %v, %d", a, way, e)
-			}
-			sum := 0
-			for i, to := range way[1:] {
-				b, is := x.Arc(way[i], to)
-				if !is {
-					t.Fatalf("Arc of %v: %v, of %v", a, way, x.All())
-				}
-				sum += b.W
-			}
-			if sum != a.W {
-				t.Fatalf("Arc of %v: %v, of %d", a, way, sum)
-			}
+			row, e := Arc(l, a.From, a.To)
+			wantRowOfTheNet(t, x, a, row, e)
 		}
 	}
 }
@@ -234,21 +240,8 @@ func TestWayIsOfTheNetAndAsHeavy(t *testing.T) {
 		x, _ := net.New(n, sample.Mids(r.Intn, n, sample.Arcs(r.Intn, n, r.Intn(5*n), 1+r.Intn(20)))...)
 		l := levels.Build(x)
 		for _, a := range l.All() {
-			way, e := Way(l, a.From, a.To)
-			if e != api.OK || way[0] != a.From || way[len(way)-1] != a.To {
-				t.Fatalf("Way of %v: %v, %d, of %v", a, way, e, x.All())
-			}
-			sum := 0
-			for i, to := range way[1:] {
-				b, is := x.Arc(way[i], to)
-				if !is {
-					t.Fatalf("Way of %v: %v, of %v", a, way, x.All())
-				}
-				sum += b.W
-			}
-			if sum != a.W {
-				t.Fatalf("Way of %v: %v, of %d; of %v", a, way, sum, x.All())
-			}
+			row, e := Way(l, a.From, a.To)
+			wantRowOfTheNet(t, x, a, row, e)
 		}
 	}
 }
